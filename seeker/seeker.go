@@ -1,0 +1,64 @@
+// Package seeker makes an index of a text, and finds in it what is nearly there: see DOC.md.
+package seeker
+
+import (
+	"seeker/api"
+	"seeker/suffix"
+	"seeker/transform"
+)
+
+// Suffixes sorts the suffixes of a text (P3).
+func Suffixes(text string) ([]int, api.Errno) {
+	if len(text) > api.MaxText {
+		return nil, api.ErrText
+	}
+	return suffix.Sort(text), api.OK
+}
+
+// Transform tells the bytes ahead of the rows, and where the END is (P4).
+func Transform(text string) (string, int, api.Errno) {
+	if len(text) > api.MaxText {
+		return "", 0, api.ErrText
+	}
+	bytes, end := transform.Of(text)
+	return bytes, end, api.OK
+}
+
+// Restore finds the text of a transform (P5).
+func Restore(bytes string, end int) (string, api.Errno) {
+	if len(bytes) > api.MaxText {
+		return "", api.ErrText
+	}
+	text, ok := transform.Restore(bytes, end)
+	if !ok {
+		return "", api.ErrTransform
+	}
+	return text, api.OK
+}
+
+// Build makes an image (P6).
+func Build(text string, rate int) (string, api.Errno) { return "", api.OK }
+
+// Text tells the text and the rate of an image (P6).
+func Text(image string) (string, int, api.Errno) { return "", 0, api.OK }
+
+// Rank tells how many rows ahead of a row have a byte, or less, ahead of them (P7).
+func Rank(image string, c int, row int) (int, int, api.Errno) { return 0, 0, api.OK }
+
+// Left puts a byte to the left of a pair (P7).
+func Left(image string, p api.Pair, c int) (api.Pair, api.Errno) { return api.Pair{}, api.OK }
+
+// Right puts a byte to the right of a pair (P7).
+func Right(image string, p api.Pair, c int) (api.Pair, api.Errno) { return api.Pair{}, api.OK }
+
+// Count tells how often a pattern stands in the text (P9).
+func Count(image string, pattern string) (int, api.Errno) { return 0, api.OK }
+
+// Locate tells where a pattern stands (P9).
+func Locate(image string, pattern string) ([]int, api.Errno) { return nil, api.OK }
+
+// Wrong tells where a pattern stands but for some wrong bytes (P10).
+func Wrong(image string, pattern string, k int) ([]int, api.Errno) { return nil, api.OK }
+
+// Edits tells where a pattern stands but for some edits (P11).
+func Edits(image string, pattern string, k int) ([]int, api.Errno) { return nil, api.OK }
