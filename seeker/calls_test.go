@@ -22,6 +22,15 @@ func oddStrings() []string {
 	}
 }
 
+// someImages are of the shortest and the longest texts, of few and of many different bytes.
+func someImages(t *testing.T) []string {
+	t.Helper()
+	return []string{
+		mustBuild(t, "", 1), mustBuild(t, "a", 64), mustBuild(t, "abracadabra", 3),
+		mustBuild(t, strings.Repeat("\xff", api.MaxText), 1), mustBuild(t, strings.Repeat("abcdefghi", 222), 7),
+	}
+}
+
 // mustBeEmpty: with an error, nothing else may be told (P1).
 func mustBeEmpty(t *testing.T, call string, e api.Errno, empty bool) {
 	t.Helper()
@@ -35,7 +44,7 @@ func mustBeEmpty(t *testing.T, call string, e api.Errno, empty bool) {
 
 // TestP1OddArguments: each call ends without a panic, at all numbers and strings.
 func TestP1OddArguments(t *testing.T) {
-	for _, s := range oddStrings() {
+	for _, s := range append(oddStrings(), someImages(t)...) {
 		rows, e := seeker.Suffixes(s)
 		mustBeEmpty(t, "Suffixes", e, len(rows) == 0)
 		bytes, end, e := seeker.Transform(s)
@@ -47,13 +56,16 @@ func TestP1OddArguments(t *testing.T) {
 			mustBeEmpty(t, "Restore", e, text == "")
 			image, e := seeker.Build(s, number)
 			mustBeEmpty(t, "Build", e, image == "")
-			same, less, e := seeker.Rank(s, number, -number)
-			mustBeEmpty(t, "Rank", e, same == 0 && less == 0)
-			p := api.Pair{Low: number, High: -number, Back: number}
-			left, e := seeker.Left(s, p, number)
-			mustBeEmpty(t, "Left", e, left == api.Pair{})
-			right, e := seeker.Right(s, p, number)
-			mustBeEmpty(t, "Right", e, right == api.Pair{})
+			for _, other := range oddNumbers() {
+				same, less, e := seeker.Rank(s, number, other)
+				mustBeEmpty(t, "Rank", e, same == 0 && less == 0)
+				for _, p := range []api.Pair{{Low: number, High: other, Back: number}, {Low: number, High: number, Back: other}} {
+					left, e := seeker.Left(s, p, other)
+					mustBeEmpty(t, "Left", e, left == api.Pair{})
+					right, e := seeker.Right(s, p, other)
+					mustBeEmpty(t, "Right", e, right == api.Pair{})
+				}
+			}
 		}
 		for _, pattern := range oddStrings() {
 			count, e := seeker.Count(s, pattern)
@@ -70,13 +82,26 @@ func TestP1OddArguments(t *testing.T) {
 	}
 }
 
-// TestP1FirstError: too long a text goes ahead of a row that is none.
+// TestP1FirstError: too long a text goes ahead of a row that is none, and of a rate that may not be; what is no image
+// goes ahead of a range.
 func TestP1FirstError(t *testing.T) {
 	long := strings.Repeat("a", api.MaxText+1)
 	for _, end := range []int{-1, 0, len(long) + 1} {
 		if text, e := seeker.Restore(long, end); text != "" || e != api.ErrText {
 			t.Errorf("Restore(%d bytes, %d) = %.20q, %d", len(long), end, text, e)
 		}
+	}
+	if image, e := seeker.Build(long, 0); image != "" || e != api.ErrText {
+		t.Errorf("Build(%d bytes, 0) = %.20q, %d", len(long), image, e)
+	}
+	if _, _, e := seeker.Rank(long, -1, -1); e != api.ErrImage {
+		t.Errorf("Rank(no image, -1, -1): %d", e)
+	}
+	if _, e := seeker.Left(long, api.Pair{Low: -1}, -1); e != api.ErrImage {
+		t.Errorf("Left(no image, Low -1, -1): %d", e)
+	}
+	if _, e := seeker.Right(long, api.Pair{Low: -1}, -1); e != api.ErrImage {
+		t.Errorf("Right(no image, Low -1, -1): %d", e)
 	}
 }
 
@@ -110,7 +135,16 @@ func TestP2ArgumentsAlone(t *testing.T) {
 			if back != text {
 				t.Errorf("Restore of the transform of %.20q: %.20q", text, back)
 			}
-			got[text] = append(rows, end)
+			image, _ := seeker.Build(text, 1+len(text)%api.MaxRate)
+			again, rate, _ := seeker.Text(image)
+			same, less, _ := seeker.Rank(image, 'a', len(text))
+			left, _ := seeker.Left(image, api.Pair{High: len(text)}, 'a')
+			right, _ := seeker.Right(image, left, 'b')
+			rows = append(rows, end, len(again), rate, same, less, left.Low, left.High, left.Back, right.Low, right.High, right.Back)
+			for i := range len(image) {
+				rows = append(rows, int(image[i]))
+			}
+			got[text] = rows
 		}
 		return got
 	}

@@ -3,6 +3,8 @@ package seeker
 
 import (
 	"seeker/api"
+	"seeker/index"
+	"seeker/saved"
 	"seeker/suffix"
 	"seeker/transform"
 )
@@ -37,19 +39,60 @@ func Restore(bytes string, end int) (string, api.Errno) {
 }
 
 // Build makes an image (P6).
-func Build(text string, rate int) (string, api.Errno) { return "", api.OK }
+func Build(text string, rate int) (string, api.Errno) {
+	if len(text) > api.MaxText {
+		return "", api.ErrText
+	}
+	if rate < 1 || rate > api.MaxRate {
+		return "", api.ErrRate
+	}
+	return saved.Image(index.Of(text, rate)), api.OK
+}
 
 // Text tells the text and the rate of an image (P6).
-func Text(image string) (string, int, api.Errno) { return "", 0, api.OK }
+func Text(image string) (string, int, api.Errno) {
+	x, ok := saved.Index(image)
+	if !ok {
+		return "", 0, api.ErrImage
+	}
+	return x.Text(), x.Rate, api.OK
+}
 
 // Rank tells how many rows ahead of a row have a byte, or less, ahead of them (P7).
-func Rank(image string, c int, row int) (int, int, api.Errno) { return 0, 0, api.OK }
+func Rank(image string, c int, row int) (int, int, api.Errno) {
+	x, ok := saved.Index(image)
+	if !ok {
+		return 0, 0, api.ErrImage
+	}
+	if !isByte(c) || row < 0 || row > x.Rows() {
+		return 0, 0, api.ErrRange
+	}
+	same, less := x.Rank(byte(c), row)
+	return same, less, api.OK
+}
 
 // Left puts a byte to the left of a pair (P7).
-func Left(image string, p api.Pair, c int) (api.Pair, api.Errno) { return api.Pair{}, api.OK }
+func Left(image string, p api.Pair, c int) (api.Pair, api.Errno) {
+	return grow(image, p, index.Left, c)
+}
 
 // Right puts a byte to the right of a pair (P7).
-func Right(image string, p api.Pair, c int) (api.Pair, api.Errno) { return api.Pair{}, api.OK }
+func Right(image string, p api.Pair, c int) (api.Pair, api.Errno) {
+	return grow(image, p, index.Right, c)
+}
+
+func grow(image string, p api.Pair, side int, c int) (api.Pair, api.Errno) {
+	x, ok := saved.Index(image)
+	if !ok {
+		return api.Pair{}, api.ErrImage
+	}
+	if !isByte(c) || !x.IsPair(p) {
+		return api.Pair{}, api.ErrRange
+	}
+	return x.Grow(p, side, byte(c)), api.OK
+}
+
+func isByte(c int) bool { return c >= 0 && c <= 255 }
 
 // Count tells how often a pattern stands in the text (P9).
 func Count(image string, pattern string) (int, api.Errno) { return 0, api.OK }

@@ -17,27 +17,38 @@ func Of(text string) (string, int) {
 	return string(bytes), end
 }
 
-// Restore finds the text of a transform from its last byte on; false, if this is the transform of no text.
+// Restore finds the text of a transform; false, if this is the transform of no text.
+func Restore(bytes string, end int) (string, bool) {
+	rows, ok := Rows(bytes, end)
+	if !ok {
+		return "", false
+	}
+	text := make([]byte, len(bytes))
+	for place := range text {
+		text[place] = bytes[indexOfRow(rows[place+1], end)]
+	}
+	return string(text), true
+}
+
+// Rows finds for each place of the text, from the last one on, the row of its suffix; false, if this is the transform
+// of no text.
 //
 // The row of a suffix leads to that of the suffix a byte longer, and the row of the END to row 0 again: each row
 // comes of one row alone. So the way from row 0 is a ring that has the END's row in it. If it has all rows, the text
 // read on it has this transform; if it comes to the END with rows left over, no text has.
-func Restore(bytes string, end int) (string, bool) {
+func Rows(bytes string, end int) ([]int, bool) {
 	if end < 0 || end > len(bytes) {
-		return "", false
+		return nil, false
 	}
 	longer := rowsBegunBy(bytes)
-	text := make([]byte, len(bytes))
-	row := 0
-	for place := len(bytes) - 1; place >= 0; place-- {
-		if row == end {
-			return "", false
+	rows := make([]int, len(bytes)+1)
+	for place := len(bytes); place > 0; place-- {
+		if rows[place] == end {
+			return nil, false
 		}
-		at := indexOfRow(row, end)
-		text[place] = bytes[at]
-		row = longer[at]
+		rows[place-1] = longer[indexOfRow(rows[place], end)]
 	}
-	return string(text), true
+	return rows, true
 }
 
 // indexOfRow says where the byte ahead of a row stands: the row of the END has none among the bytes.

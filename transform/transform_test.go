@@ -6,6 +6,8 @@ import (
 	"slices"
 	"strings"
 	"testing"
+
+	"seeker/suffix"
 )
 
 type pair struct {
@@ -88,12 +90,30 @@ func TestThereAndBack(t *testing.T) {
 	}
 }
 
+func TestRowsOfPlaces(t *testing.T) {
+	for _, text := range []string{"", "a", "aaa", "abracadabra", "\xff\x00\xff", strings.Repeat("ab", 1000)} {
+		p := plain(text)
+		rows, ok := Rows(p.bytes, p.end)
+		if !ok || len(rows) != len(text)+1 {
+			t.Fatalf("Rows(%.40q, %d): %d rows, %v", p.bytes, p.end, len(rows), ok)
+		}
+		for row, place := range suffix.Sort(text) {
+			if rows[place] != row {
+				t.Errorf("%.40q: the row of place %d is %d, want %d", text, place, rows[place], row)
+			}
+		}
+	}
+}
+
 func TestRowsThatAreNot(t *testing.T) {
 	for _, bytes := range []string{"", "a", "ba", "ardrcaaaabb", strings.Repeat("a", 2000)} {
 		n := len(bytes)
 		for _, end := range []int{math.MinInt, math.MinInt32, -1, n + 1, n + 2, math.MaxInt32, math.MaxInt} {
 			if text, ok := Restore(bytes, end); text != "" || ok {
 				t.Errorf("Restore(%.20q, %d) = %.20q, %v", bytes, end, text, ok)
+			}
+			if rows, ok := Rows(bytes, end); len(rows) != 0 || ok {
+				t.Errorf("Rows(%.20q, %d): %d rows, %v", bytes, end, len(rows), ok)
 			}
 		}
 	}

@@ -1,0 +1,113 @@
+package index
+
+import (
+	"math/rand"
+	"strings"
+	"testing"
+
+	"seeker/api"
+	"seeker/suffix"
+)
+
+func drawText(r *rand.Rand, size, kinds int) string {
+	b := make([]byte, size)
+	for i := range b {
+		b[i] = byte(r.Intn(kinds) * 255 / max(1, kinds-1))
+	}
+	return string(b)
+}
+
+func someTexts() []string {
+	texts := []string{"", "a", "aaa", "abracadabra", "\x00", "\xff\x00", "the quick brown fox", strings.Repeat("ab", 1000)}
+	r := rand.New(rand.NewSource(23))
+	for _, kinds := range []int{1, 2, 8, 9, 256} {
+		texts = append(texts, drawText(r, 60, kinds), drawText(r, 257, kinds), drawText(r, 2000, kinds))
+	}
+	return texts
+}
+
+func TestTextOfSide(t *testing.T) {
+	for _, text := range someTexts() {
+		x := Of(text, 5)
+		if x.Text() != text || x.Back.Text() != reversed(text) || x.Rows() != len(text)+1 {
+			t.Errorf("%.20q: %.20q, backwards %.20q, %d rows", text, x.Text(), x.Back.Text(), x.Rows())
+		}
+	}
+}
+
+func TestPlaces(t *testing.T) {
+	for _, text := range someTexts() {
+		for _, rate := range []int{1, 2, 7, 64} {
+			x := Of(text, rate)
+			for row, place := range suffix.Sort(text) {
+				if got := x.Place(row); got != place {
+					t.Fatalf("%.20q, rate %d: the place of row %d is %d, want %d", text, rate, row, got, place)
+				}
+			}
+		}
+	}
+}
+
+// TestKept: just each rate-th place is kept, in the order of the rows.
+func TestKept(t *testing.T) {
+	for _, text := range someTexts() {
+		for _, rate := range []int{1, 2, 7, 64} {
+			kept := Of(text, rate).Kept
+			count := 0
+			for row, place := range suffix.Sort(text) {
+				got, ok := kept.at(row)
+				if ok != (place%rate == 0) || ok && got != place {
+					t.Fatalf("%.20q, rate %d: row %d, of place %d, keeps %d, %v", text, rate, row, place, got, ok)
+				}
+				if ok {
+					count++
+				}
+			}
+			if len(kept.Places) != count || count != len(text)/rate+1 {
+				t.Fatalf("%.20q, rate %d: %d places kept of %d", text, rate, len(kept.Places), len(text)+1)
+			}
+		}
+	}
+}
+
+// TestJoin takes the transforms of a text and of the same text backwards, and no others.
+func TestJoin(t *testing.T) {
+	texts := []string{"", "a", "b", "ab", "ba", "aab", "aba", "abracadabra"}
+	for _, text := range texts {
+		for _, other := range texts {
+			x, ok := Join(transformed(text), transformed(reversed(other)), 3)
+			if ok != (text == other) || ok && x.Text() != text {
+				t.Errorf("%q with %q: %v", text, other, ok)
+			}
+		}
+	}
+	good := transformed("ab")
+	for _, bad := range []Transformed{{"ab", 0}, {"ba", 2}, {"ba", 7}, {"ba", -1}, {"", 1}} {
+		_, first := Join(bad, good, 1)
+		_, second := Join(good, bad, 1)
+		if first || second {
+			t.Errorf("%v is taken for a transform: ahead %v, back %v", bad, first, second)
+		}
+	}
+}
+
+// TestGrownStaysPair: from every pair, of a pattern or not, each byte leads to a pair.
+func TestGrownStaysPair(t *testing.T) {
+	for _, text := range []string{"", "a", "aaa", "abcab", "\x00\xff\x00"} {
+		x := Of(text, 1)
+		rows := x.Rows()
+		for low := range rows + 1 {
+			for high := low; high <= rows; high++ {
+				for back := 0; back <= rows-(high-low); back++ {
+					p := api.Pair{Low: low, High: high, Back: back}
+					for c := range 256 {
+						left, right := x.Grow(p, Left, byte(c)), x.Grow(p, Right, byte(c))
+						if !x.IsPair(p) || !x.IsPair(left) || !x.IsPair(right) {
+							t.Fatalf("%q, %v, by %d: %v, %v", text, p, c, left, right)
+						}
+					}
+				}
+			}
+		}
+	}
+}

@@ -1,0 +1,70 @@
+// Package index is the index of a text: its rows, and how a pattern's interval of them moves as the pattern grows.
+package index
+
+import "seeker/ranks"
+
+// Transformed is a text as its transform.
+type Transformed struct {
+	Bytes string
+	End   int // the row that has the END
+}
+
+// Side is the index of a text to one side: a pattern grows in it to the left alone.
+type Side struct {
+	Counter ranks.Counter
+	End     int // the row that has the END; the Counter leaves it out
+}
+
+func sideOf(t Transformed) Side {
+	return Side{Counter: ranks.Of(t.Bytes), End: t.End}
+}
+
+// Rows tells how many rows there are.
+func (s *Side) Rows() int { return s.Counter.Size() + 1 }
+
+// Rank tells how many rows ahead of this one have c ahead of them, and how many have less, or the END; the row may be
+// the one behind the last.
+func (s *Side) Rank(c byte, row int) (same, less int) {
+	if row <= s.End {
+		return s.Counter.Count(c, row)
+	}
+	same, less = s.Counter.Count(c, row-1)
+	return same, less + 1
+}
+
+// Ahead tells the byte ahead of a row, which must not be that of the END, and the row of the suffix that begins with
+// this byte.
+func (s *Side) Ahead(row int) (byte, int) {
+	at := row
+	if row > s.End {
+		at--
+	}
+	c := s.Counter.At(at)
+	same, _ := s.Rank(c, row)
+	return c, s.first(c) + same
+}
+
+// first tells how many suffixes go ahead of those that begin with c: the empty one, and all that begin with less.
+func (s *Side) first(c byte) int {
+	_, less := s.Rank(c, s.Rows())
+	return less
+}
+
+// Narrow moves an interval by a byte to the left. It tells too how many rows of the old interval have less than this
+// byte, or the END, ahead of them.
+func (s *Side) Narrow(low, high int, c byte) (newLow, newHigh, passed int) {
+	sameLow, lessLow := s.Rank(c, low)
+	sameHigh, lessHigh := s.Rank(c, high)
+	first := s.first(c)
+	return first + sameLow, first + sameHigh, lessHigh - lessLow
+}
+
+// Text reads the text off the rows, from its end on: row 0 is that of the empty suffix.
+func (s *Side) Text() string {
+	text := make([]byte, s.Counter.Size())
+	row := 0
+	for place := len(text) - 1; place >= 0; place-- {
+		text[place], row = s.Ahead(row)
+	}
+	return string(text)
+}
