@@ -83,3 +83,13 @@ func (x *Index) Place(row int) int {
 		_, row = x.Ahead(row)
 	}
 }
+
+// Places tells the places of the rows of an interval, rising.
+func (x *Index) Places(low, high int) []int {
+	places := make([]int, 0, high-low)
+	for row := low; row < high; row++ {
+		places = append(places, x.Place(row))
+	}
+	slices.Sort(places)
+	return places
+}

@@ -2,6 +2,7 @@ package index
 
 import (
 	"math/rand"
+	"slices"
 	"strings"
 	"testing"
 
@@ -107,6 +108,54 @@ func TestGrownStaysPair(t *testing.T) {
 						}
 					}
 				}
+			}
+		}
+	}
+}
+
+// plainInterval looks at every row; of a pattern that stands nowhere, it tells twice how many rows go ahead of it.
+func plainInterval(text, pattern string) (low, high int) {
+	count := 0
+	for place := range len(text) + 1 {
+		if strings.HasPrefix(text[place:], pattern) {
+			count++
+		} else if text[place:] < pattern {
+			low++
+		}
+	}
+	return low, low + count
+}
+
+func TestInterval(t *testing.T) {
+	r := rand.New(rand.NewSource(29))
+	for _, text := range someTexts() {
+		x := Of(text, 3)
+		patterns := []string{"", "\x00", "\xff", "a", "ab", "zz", "\xff\xff\x00", text, text + "a"}
+		for range 20 {
+			from := r.Intn(len(text) + 1)
+			piece := text[from:min(len(text), from+r.Intn(8))]
+			patterns = append(patterns, piece, piece+"\x00", piece+"\xff", "m"+piece)
+		}
+		for _, pattern := range patterns {
+			low, high := x.Interval(pattern)
+			if wantLow, wantHigh := plainInterval(text, pattern); low != wantLow || high != wantHigh {
+				t.Fatalf("%.20q in %.20q: %d, %d, want %d, %d", pattern, text, low, high, wantLow, wantHigh)
+			}
+		}
+	}
+}
+
+func TestPlacesOfInterval(t *testing.T) {
+	r := rand.New(rand.NewSource(31))
+	for _, text := range someTexts() {
+		rows := suffix.Sort(text)
+		x := Of(text, 1+r.Intn(64))
+		for range 10 {
+			low := r.Intn(len(rows) + 1)
+			high := low + r.Intn(len(rows)+1-low)
+			want := slices.Sorted(slices.Values(rows[low:high]))
+			if got := x.Places(low, high); !slices.Equal(got, want) {
+				t.Fatalf("%.20q, rows %d to %d: %.40v, want %.40v", text, low, high, got, want)
 			}
 		}
 	}

@@ -59,6 +59,16 @@ func (s *Side) Narrow(low, high int, c byte) (newLow, newHigh, passed int) {
 	return first + sameLow, first + sameHigh, lessHigh - lessLow
 }
 
+// Interval tells the rows whose suffixes begin with a pattern. An empty interval goes on moving as others do: it stays
+// at how many rows go ahead of the pattern.
+func (s *Side) Interval(pattern string) (low, high int) {
+	low, high = 0, s.Rows()
+	for i := len(pattern) - 1; i >= 0; i-- {
+		low, high, _ = s.Narrow(low, high, pattern[i])
+	}
+	return low, high
+}
+
 // Text reads the text off the rows, from its end on: row 0 is that of the empty suffix.
 func (s *Side) Text() string {
 	text := make([]byte, s.Counter.Size())

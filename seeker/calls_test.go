@@ -83,7 +83,7 @@ func TestP1OddArguments(t *testing.T) {
 }
 
 // TestP1FirstError: too long a text goes ahead of a row that is none, and of a rate that may not be; what is no image
-// goes ahead of a range.
+// goes ahead of a range and of a pattern.
 func TestP1FirstError(t *testing.T) {
 	long := strings.Repeat("a", api.MaxText+1)
 	for _, end := range []int{-1, 0, len(long) + 1} {
@@ -102,6 +102,9 @@ func TestP1FirstError(t *testing.T) {
 	}
 	if _, e := seeker.Right(long, api.Pair{Low: -1}, -1); e != api.ErrImage {
 		t.Errorf("Right(no image, Low -1, -1): %d", e)
+	}
+	for _, pattern := range []string{"", long} {
+		checkFindingError(t, long, pattern, api.ErrImage)
 	}
 }
 
@@ -140,7 +143,10 @@ func TestP2ArgumentsAlone(t *testing.T) {
 			same, less, _ := seeker.Rank(image, 'a', len(text))
 			left, _ := seeker.Left(image, api.Pair{High: len(text)}, 'a')
 			right, _ := seeker.Right(image, left, 'b')
-			rows = append(rows, end, len(again), rate, same, less, left.Low, left.High, left.Back, right.Low, right.High, right.Back)
+			count, _ := seeker.Count(image, "a")
+			places, _ := seeker.Locate(image, "a")
+			rows = append(rows, end, len(again), rate, same, less, left.Low, left.High, left.Back, right.Low, right.High, right.Back, count)
+			rows = append(rows, places...)
 			for i := range len(image) {
 				rows = append(rows, int(image[i]))
 			}

@@ -87,6 +87,9 @@ func mustBeNoImage(t *testing.T, image string) {
 			t.Errorf("Right(%.40q, %v, %d) = %v, %d", image, c.p, c.c, p, e)
 		}
 	}
+	for _, pattern := range []string{"", "a", "\x00", strings.Repeat("a", api.MaxPattern+1)} {
+		checkFindingError(t, image, pattern, api.ErrImage)
+	}
 }
 
 // mustAnswerOf: the calls answer of this text.
@@ -110,6 +113,10 @@ func mustAnswerOf(t *testing.T, image, text string) {
 	}
 	if _, _, e := seeker.Rank(image, 'a', rows+1); e != api.ErrRange {
 		t.Errorf("Rank of a behind the end of %.40q: %d", text, e)
+	}
+	checkFound(t, image, text, "a")
+	if text != "" {
+		checkFound(t, image, text, text[len(text)/2:min(len(text), len(text)/2+3)])
 	}
 }
 

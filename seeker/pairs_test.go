@@ -297,16 +297,6 @@ func walk(t *testing.T, r *rand.Rand, image, text string, from, to int) api.Pair
 	return p
 }
 
-func countPlaces(text, pattern string) int {
-	count := 0
-	for place := range len(text) + 1 {
-		if strings.HasPrefix(text[place:], pattern) {
-			count++
-		}
-	}
-	return count
-}
-
 // TestP8AnyOrder: a piece has one pair, however it is made, and as many rows as places.
 func TestP8AnyOrder(t *testing.T) {
 	r := rand.New(rand.NewSource(61))
@@ -317,7 +307,7 @@ func TestP8AnyOrder(t *testing.T) {
 		to := min(len(text), from+r.Intn(10))
 		for range 3 {
 			p := walk(t, r, image, text, from, to)
-			if p.High-p.Low != countPlaces(text, text[from:to]) {
+			if p.High-p.Low != len(plainPlaces(text, text[from:to])) {
 				t.Fatalf("%q in %q: %v", text[from:to], text, p)
 			}
 		}
@@ -348,7 +338,7 @@ func checkLonger(t *testing.T, text, longer string, got api.Pair, e api.Errno) {
 	if e != api.OK {
 		t.Fatalf("%q in %q: %d", longer, text, e)
 	}
-	if countPlaces(text, longer) == 0 {
+	if len(plainPlaces(text, longer)) == 0 {
 		if got.High != got.Low {
 			t.Fatalf("%q does not stand in %q, and has %v", longer, text, got)
 		}

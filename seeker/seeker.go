@@ -95,10 +95,38 @@ func grow(image string, p api.Pair, side int, c int) (api.Pair, api.Errno) {
 func isByte(c int) bool { return c >= 0 && c <= 255 }
 
 // Count tells how often a pattern stands in the text (P9).
-func Count(image string, pattern string) (int, api.Errno) { return 0, api.OK }
+func Count(image string, pattern string) (int, api.Errno) {
+	x, e := opened(image, pattern)
+	if e != api.OK {
+		return 0, e
+	}
+	low, high := x.Interval(pattern)
+	return high - low, api.OK
+}
 
 // Locate tells where a pattern stands (P9).
-func Locate(image string, pattern string) ([]int, api.Errno) { return nil, api.OK }
+func Locate(image string, pattern string) ([]int, api.Errno) {
+	x, e := opened(image, pattern)
+	if e != api.OK {
+		return nil, e
+	}
+	return x.Places(x.Interval(pattern)), api.OK
+}
+
+// opened has the errors that all finding calls share, in their order, ahead of the index.
+func opened(image string, pattern string) (*index.Index, api.Errno) {
+	x, ok := saved.Index(image)
+	if !ok {
+		return nil, api.ErrImage
+	}
+	if pattern == "" {
+		return nil, api.ErrEmpty
+	}
+	if len(pattern) > api.MaxPattern {
+		return nil, api.ErrPattern
+	}
+	return x, api.OK
+}
 
 // Wrong tells where a pattern stands but for some wrong bytes (P10).
 func Wrong(image string, pattern string, k int) ([]int, api.Errno) { return nil, api.OK }
