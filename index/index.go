@@ -73,6 +73,11 @@ func (x *Index) Grow(p api.Pair, side int, c byte) api.Pair {
 	return api.Pair{Low: p.Low + passed, High: p.Low + passed + high - low, Back: low}
 }
 
+// Followers tells the bytes, rising, that stand in the text behind the pattern of a pair.
+func (x *Index) Followers(p api.Pair) string {
+	return x.Back.Among(p.Back, p.Back+p.High-p.Low)
+}
+
 // Place tells the place of a row: from there it goes to the left until it comes to a place that is kept. Place 0 is,
 // so it never comes to the END.
 func (x *Index) Place(row int) int {

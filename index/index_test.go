@@ -10,6 +10,9 @@ import (
 	"seeker/suffix"
 )
 
+// short is as much of a list as is good to read when a test fails.
+func short(list []int) []int { return list[:min(len(list), 40)] }
+
 func drawText(r *rand.Rand, size, kinds int) string {
 	b := make([]byte, size)
 	for i := range b {
@@ -145,6 +148,43 @@ func TestInterval(t *testing.T) {
 	}
 }
 
+// plainFollowers looks behind every place at which a pattern stands.
+func plainFollowers(text, pattern string) string {
+	var found [256]bool
+	for place := range len(text) {
+		if rest, ok := strings.CutPrefix(text[place:], pattern); ok && rest != "" {
+			found[rest[0]] = true
+		}
+	}
+	var followers []byte
+	for c, is := range found {
+		if is {
+			followers = append(followers, byte(c))
+		}
+	}
+	return string(followers)
+}
+
+// TestFollowers: of pieces that grow to the right up to the text's end, behind which there is none.
+func TestFollowers(t *testing.T) {
+	r := rand.New(rand.NewSource(89))
+	for _, text := range someTexts() {
+		x := Of(text, 3)
+		for _, from := range []int{0, len(text), max(0, len(text)-1), r.Intn(len(text) + 1), r.Intn(len(text) + 1)} {
+			p := api.Pair{High: x.Rows()}
+			for to := from; ; to++ {
+				if got, want := x.Followers(p), plainFollowers(text, text[from:to]); got != want {
+					t.Fatalf("behind %.40q in %.20q: %q, want %q", text[from:to], text, got, want)
+				}
+				if to == min(len(text), from+9) {
+					break
+				}
+				p = x.Grow(p, Right, text[to])
+			}
+		}
+	}
+}
+
 func TestPlacesOfInterval(t *testing.T) {
 	r := rand.New(rand.NewSource(31))
 	for _, text := range someTexts() {
@@ -155,7 +195,7 @@ func TestPlacesOfInterval(t *testing.T) {
 			high := low + r.Intn(len(rows)+1-low)
 			want := slices.Sorted(slices.Values(rows[low:high]))
 			if got := x.Places(low, high); !slices.Equal(got, want) {
-				t.Fatalf("%.20q, rows %d to %d: %.40v, want %.40v", text, low, high, got, want)
+				t.Fatalf("%.20q, rows %d to %d: %v, want %v", text, low, high, short(got), short(want))
 			}
 		}
 	}

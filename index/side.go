@@ -25,23 +25,32 @@ func (s *Side) Rows() int { return s.Counter.Size() + 1 }
 // Rank tells how many rows ahead of this one have c ahead of them, and how many have less, or the END; the row may be
 // the one behind the last.
 func (s *Side) Rank(c byte, row int) (same, less int) {
-	if row <= s.End {
-		return s.Counter.Count(c, row)
+	same, less = s.Counter.Count(c, s.counted(row))
+	if row > s.End {
+		less++
 	}
-	same, less = s.Counter.Count(c, row-1)
-	return same, less + 1
+	return same, less
 }
 
 // Ahead tells the byte ahead of a row, which must not be that of the END, and the row of the suffix that begins with
 // this byte.
 func (s *Side) Ahead(row int) (byte, int) {
-	at := row
-	if row > s.End {
-		at--
-	}
-	c := s.Counter.At(at)
+	c := s.Counter.At(s.counted(row))
 	same, _ := s.Rank(c, row)
 	return c, s.first(c) + same
+}
+
+// counted tells the row that the Counter has for a row: it leaves the END's out.
+func (s *Side) counted(row int) int {
+	if row > s.End {
+		return row - 1
+	}
+	return row
+}
+
+// Among tells the different bytes ahead of the rows of an interval, rising.
+func (s *Side) Among(low, high int) string {
+	return s.Counter.Among(s.counted(low), s.counted(high))
 }
 
 // first tells how many suffixes go ahead of those that begin with c: the empty one, and all that begin with less.

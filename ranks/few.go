@@ -51,3 +51,14 @@ func (f *Few) Count(c byte, row int) (same, less int) {
 	}
 	return 0, less
 }
+
+// Among is the Counter's.
+func (f *Few) Among(low, high int) string {
+	var among []byte
+	for k, bits := range f.rows {
+		if bits.Ones(low) < bits.Ones(high) {
+			among = append(among, f.letters[k])
+		}
+	}
+	return string(among)
+}

@@ -56,3 +56,6 @@ func (m *Many) Count(c byte, row int) (same, less int) {
 	}
 	return same, less
 }
+
+// Among is the Counter's.
+func (m *Many) Among(low, high int) string { return lettersOf(m.bytes[low:high]) }

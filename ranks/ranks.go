@@ -16,6 +16,8 @@ type Counter interface {
 	At(row int) byte
 	// Count tells how many of the rows ahead of this one have c, and how many have less; the row may be Size.
 	Count(c byte, row int) (same, less int)
+	// Among tells the different bytes of the rows from low to high - 1, rising.
+	Among(low, high int) string
 }
 
 // Of makes the kind of counter that is right for these bytes.

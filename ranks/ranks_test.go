@@ -40,6 +40,42 @@ func check(t *testing.T, bytes string) {
 	}
 }
 
+// checkAmong holds both kinds against a plain look at each byte.
+func checkAmong(t *testing.T, bytes string, low, high int) {
+	t.Helper()
+	want := ""
+	for c := range 256 {
+		if letter := string([]byte{byte(c)}); strings.Contains(bytes[low:high], letter) {
+			want += letter
+		}
+	}
+	for _, counter := range []Counter{newFew(bytes, lettersOf(bytes)), newMany(bytes)} {
+		if got := counter.Among(low, high); got != want {
+			t.Fatalf("%T of %.40q: Among(%d, %d) = %q, want %q", counter, bytes, low, high, got, want)
+		}
+	}
+}
+
+func TestAmong(t *testing.T) {
+	r := rand.New(rand.NewSource(83))
+	for _, size := range []int{0, 1, 2, 64, 65, 300} {
+		for _, kinds := range []int{1, 2, 9, 256} {
+			drawn := make([]byte, size)
+			for i := range drawn {
+				drawn[i] = byte(r.Intn(kinds) * 255 / max(1, kinds-1))
+			}
+			checkAmong(t, string(drawn), 0, size)
+			for range 20 {
+				low := r.Intn(size + 1)
+				high := low + r.Intn(size+1-low)
+				checkAmong(t, string(drawn), low, low)
+				checkAmong(t, string(drawn), low, high)
+				checkAmong(t, string(drawn), low, min(size, low+1))
+			}
+		}
+	}
+}
+
 func TestCount(t *testing.T) {
 	r := rand.New(rand.NewSource(19))
 	for _, size := range []int{0, 1, 2, 5, 63, 64, 65, 127, 128, 129, 300} {

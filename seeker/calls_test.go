@@ -83,7 +83,7 @@ func TestP1OddArguments(t *testing.T) {
 }
 
 // TestP1FirstError: too long a text goes ahead of a row that is none, and of a rate that may not be; what is no image
-// goes ahead of a range and of a pattern.
+// goes ahead of a range, of a pattern and of a k.
 func TestP1FirstError(t *testing.T) {
 	long := strings.Repeat("a", api.MaxText+1)
 	for _, end := range []int{-1, 0, len(long) + 1} {
@@ -105,6 +105,7 @@ func TestP1FirstError(t *testing.T) {
 	}
 	for _, pattern := range []string{"", long} {
 		checkFindingError(t, long, pattern, api.ErrImage)
+		checkNearError(t, long, pattern, -1, api.ErrImage)
 	}
 }
 
@@ -145,8 +146,10 @@ func TestP2ArgumentsAlone(t *testing.T) {
 			right, _ := seeker.Right(image, left, 'b')
 			count, _ := seeker.Count(image, "a")
 			places, _ := seeker.Locate(image, "a")
+			wrong, _ := seeker.Wrong(image, "ba", 1)
+			edits, _ := seeker.Edits(image, "bab", 2)
 			rows = append(rows, end, len(again), rate, same, less, left.Low, left.High, left.Back, right.Low, right.High, right.Back, count)
-			rows = append(rows, places...)
+			rows = slices.Concat(rows, places, wrong, edits)
 			for i := range len(image) {
 				rows = append(rows, int(image[i]))
 			}
@@ -163,7 +166,7 @@ func TestP2ArgumentsAlone(t *testing.T) {
 			got := answers(order)
 			for text, list := range want {
 				if !slices.Equal(got[text], list) {
-					t.Errorf("two answers of %.20q: %.60v and %.60v", text, got[text], list)
+					t.Errorf("two answers of %.20q: %v and %v", text, short(got[text]), short(list))
 				}
 			}
 		})

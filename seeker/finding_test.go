@@ -28,7 +28,7 @@ func checkFound(t *testing.T, image, text, pattern string) {
 		t.Errorf("Count of %q in %.40q: %d, %d, want %d", pattern, text, count, e, len(want))
 	}
 	if places, e := seeker.Locate(image, pattern); !slices.Equal(places, want) || e != api.OK {
-		t.Errorf("Locate of %q in %.40q: %.40v, %d, want %.40v", pattern, text, places, e, want)
+		t.Errorf("Locate of %q in %.40q: %v, %d, want %v", pattern, text, short(places), e, short(want))
 	}
 }
 
@@ -175,7 +175,7 @@ func checkFindingError(t *testing.T, image, pattern string, want api.Errno) {
 		t.Errorf("Count(%.20q, %d bytes) = %d, %d, want %d", image, len(pattern), count, e, want)
 	}
 	if places, e := seeker.Locate(image, pattern); len(places) != 0 || e != want {
-		t.Errorf("Locate(%.20q, %d bytes) = %.20v, %d, want %d", image, len(pattern), places, e, want)
+		t.Errorf("Locate(%.20q, %d bytes) = %v, %d, want %d", image, len(pattern), short(places), e, want)
 	}
 }
 

@@ -89,6 +89,7 @@ func mustBeNoImage(t *testing.T, image string) {
 	}
 	for _, pattern := range []string{"", "a", "\x00", strings.Repeat("a", api.MaxPattern+1)} {
 		checkFindingError(t, image, pattern, api.ErrImage)
+		checkNearError(t, image, pattern, len(pattern)-1, api.ErrImage) // a k that may be and one that may not
 	}
 }
 
@@ -116,8 +117,15 @@ func mustAnswerOf(t *testing.T, image, text string) {
 	}
 	checkFound(t, image, text, "a")
 	if text != "" {
-		checkFound(t, image, text, text[len(text)/2:min(len(text), len(text)/2+3)])
+		piece := text[len(text)/2 : min(len(text), len(text)/2+3)]
+		checkFound(t, image, text, piece)
+		pattern := "a" + piece
+		checkNear(t, image, text, pattern, plainWrong(text, pattern), plainEdits(text, pattern), 1)
 	}
+	if places, e := seeker.Wrong(image, "ab", 2); len(places) != max(0, len(text)-1) || e != api.OK {
+		t.Errorf("ab within 2 wrong bytes in %.40q: %v, %d", text, short(places), e)
+	}
+	checkNearError(t, image, "a", -1, api.ErrK)
 }
 
 // mustBeOneOrNone is P6, of any bytes. It tells whether they are an image.

@@ -4,6 +4,7 @@ package seeker
 import (
 	"seeker/api"
 	"seeker/index"
+	"seeker/near"
 	"seeker/saved"
 	"seeker/suffix"
 	"seeker/transform"
@@ -129,7 +130,25 @@ func opened(image string, pattern string) (*index.Index, api.Errno) {
 }
 
 // Wrong tells where a pattern stands but for some wrong bytes (P10).
-func Wrong(image string, pattern string, k int) ([]int, api.Errno) { return nil, api.OK }
+func Wrong(image string, pattern string, k int) ([]int, api.Errno) {
+	x, e := opened(image, pattern)
+	if e != api.OK {
+		return nil, e
+	}
+	if k < 0 || k > api.MaxK {
+		return nil, api.ErrK
+	}
+	return near.Places(x, pattern, k, near.Replace), api.OK
+}
 
 // Edits tells where a pattern stands but for some edits (P11).
-func Edits(image string, pattern string, k int) ([]int, api.Errno) { return nil, api.OK }
+func Edits(image string, pattern string, k int) ([]int, api.Errno) {
+	x, e := opened(image, pattern)
+	if e != api.OK {
+		return nil, e
+	}
+	if k < 0 || k > api.MaxK || k >= len(pattern) {
+		return nil, api.ErrK
+	}
+	return near.Places(x, pattern, k, near.PutIn, near.TakeAway, near.Replace), api.OK
+}
